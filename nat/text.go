@@ -5,6 +5,7 @@ import (
 	"strings"
 
 	"theodolite/api"
+	"theodolite/limbs"
 )
 
 // The greatest power of ten that a limb holds, and its noughts: texts are read
@@ -58,7 +59,7 @@ func appendGroup(a []uint64, digits string) []uint64 {
 		carry = carry*10 + uint64(digits[i]-'0')
 	}
 	for i, x := range a {
-		a[i], carry = mulAdd(x, group, carry, 0)
+		a[i], carry = limbs.MulAdd(x, group, carry, 0)
 	}
 	if carry == 0 {
 		return a
@@ -86,9 +87,9 @@ func Text(a []uint64) string {
 // groupsOf is a number to the base of a group, the least first; of 0 one 0.
 func groupsOf(a []uint64) []uint64 {
 	rest := append([]uint64(nil), a...)
-	groups := []uint64{divideWord(rest, group)}
-	for rest = trim(rest); len(rest) > 0; rest = trim(rest) {
-		groups = append(groups, divideWord(rest, group))
+	groups := []uint64{limbs.DivideWord(rest, group)}
+	for rest = limbs.Trim(rest); len(rest) > 0; rest = limbs.Trim(rest) {
+		groups = append(groups, limbs.DivideWord(rest, group))
 	}
 	return groups
 }

@@ -1,4 +1,4 @@
-package nat
+package limbs
 
 import (
 	"math"
@@ -6,21 +6,21 @@ import (
 	"slices"
 )
 
-// divide is division with a rest, of a number by one that is not 0.
-func divide(a, b []uint64) (q, r []uint64) {
+// DivMod divides one by another, which is not 0.
+func DivMod(a, b []uint64) (q, r []uint64) {
 	switch {
 	case Cmp(a, b) < 0:
 		return nil, slices.Clone(a)
 	case len(b) == 1:
 		q = slices.Clone(a)
-		r = []uint64{divideWord(q, b[0])}
-		return trim(q), trim(r)
+		r = []uint64{DivideWord(q, b[0])}
+		return Trim(q), Trim(r)
 	}
 	return divideLong(a, b)
 }
 
-// divideWord leaves in a what a by d is, and answers the rest.
-func divideWord(a []uint64, d uint64) (rest uint64) {
+// DivideWord leaves in a what a by d is, not trimmed, and answers the rest.
+func DivideWord(a []uint64, d uint64) (rest uint64) {
 	for i := len(a) - 1; i >= 0; i-- {
 		a[i], rest = bits.Div64(rest, a[i], d)
 	}
@@ -33,13 +33,13 @@ func divideWord(a []uint64, d uint64) (rest uint64) {
 // guessed from the highest limbs is then off by little.
 func divideLong(a, b []uint64) (q, r []uint64) {
 	shift := bits.LeadingZeros64(b[len(b)-1])
-	rest := shiftUp(a, shift)
-	by := shiftUp(b, shift)[:len(b)]
+	rest := ShiftUp(a, shift)
+	by := ShiftUp(b, shift)[:len(b)]
 	q = make([]uint64, len(a)-len(b)+1)
 	for i := len(q) - 1; i >= 0; i-- {
 		q[i] = nextLimb(rest[i:i+len(by)+1], by)
 	}
-	return trim(q), trim(shiftDown(rest[:len(by)], shift))
+	return Trim(q), Trim(ShiftDown(rest[:len(by)], shift))
 }
 
 // nextLimb is rest by by, which is one limb; rest, a limb longer than by,
@@ -79,7 +79,7 @@ func guessLimb(rest, by []uint64) uint64 {
 // takeAway takes by, so many times, from rest, and answers what it borrowed.
 func takeAway(rest, by []uint64, times uint64) (borrow uint64) {
 	for i, y := range by {
-		low, high := mulAdd(times, y, borrow, 0)
+		low, high := MulAdd(times, y, borrow, 0)
 		rest[i], borrow = bits.Sub64(rest[i], low, 0)
 		borrow += high
 	}
@@ -93,12 +93,4 @@ func giveBack(rest, by []uint64) {
 	for i, y := range by {
 		rest[i], carry = bits.Add64(rest[i], y, carry)
 	}
-}
-
-// wordGcd is the greatest divisor of two limbs.
-func wordGcd(x, y uint64) uint64 {
-	for y != 0 {
-		x, y = y, x%y
-	}
-	return x
 }
