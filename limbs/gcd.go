@@ -27,6 +27,14 @@ func Gcd(a, b []uint64) []uint64 {
 	return []uint64{wordGcd(y[0], modWord(x, y[0]))}
 }
 
+// Lowest is two, the second one not 0, with their greatest divisor taken out.
+func Lowest(a, b []uint64) (x, y []uint64) {
+	by := Gcd(a, b)
+	x, _ = DivMod(a, by)
+	y, _ = DivMod(b, by)
+	return x, y
+}
+
 // steps are some steps of Euclid's in a row. Of an even number of them x
 // becomes a x - b y, and y becomes d y - c x; of an odd number b y - a x, and
 // c x - d y. b is 0 where there is no step.

@@ -1,9 +1,9 @@
 // Package limbs is arithmetic on rows of limbs of any length: what package nat
-// promises of numbers that are not too long, and what package rat needs on the
-// way to such. A row is a number to the base 2^64, the least limb first; it is
-// handed in trimmed (the last limb is not 0; 0 has none), unless a call says
-// otherwise. No row that is handed in is changed, unless a call says so, and
-// each answer is new memory.
+// promises of numbers that are not too long, and what packages rat and decimal
+// need on the way to such. A row is a number to the base 2^64, the least limb
+// first; it is handed in trimmed (the last limb is not 0; 0 has none), unless a
+// call says otherwise. No row that is handed in is changed, unless a call says
+// so, and each answer is new memory.
 package limbs
 
 import "math/bits"
@@ -26,6 +26,9 @@ func Trim(a []uint64) []uint64 {
 	}
 	return a
 }
+
+// IsOne tells whether one is 1.
+func IsOne(a []uint64) bool { return len(a) == 1 && a[0] == 1 }
 
 // Cmp compares two.
 func Cmp(a, b []uint64) int {

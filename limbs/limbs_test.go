@@ -156,6 +156,27 @@ func TestGcd(t *testing.T) {
 	})
 }
 
+func TestLowest(t *testing.T) {
+	pairs(t, func(a, b []uint64, x, y *big.Int) {
+		if len(b) == 0 {
+			return
+		}
+		n, d := limbs.Lowest(a, b)
+		want := new(big.Rat).SetFrac(x, y)
+		if !same(n, want.Num()) || !same(d, want.Denom()) {
+			t.Fatalf("Lowest(%v, %v): %v, %v", a, b, n, d)
+		}
+		wreck(n)
+		if !same(d, want.Denom()) {
+			t.Fatalf("Lowest(%v, %v): both answers share memory", a, b)
+		}
+		wreck(d)
+		if limbs.IsOne(a) != (x.Cmp(big.NewInt(1)) == 0) {
+			t.Fatalf("IsOne(%v): %v", a, limbs.IsOne(a))
+		}
+	})
+}
+
 // TestGcdOfMuchInCommon has pairs that end at a divisor of many limbs.
 func TestGcdOfMuchInCommon(t *testing.T) {
 	list := rows()

@@ -4,6 +4,7 @@ import (
 	"strings"
 
 	"theodolite/api"
+	"theodolite/limbs"
 	"theodolite/nat"
 	"theodolite/whole"
 )
@@ -30,7 +31,7 @@ func Text(a api.Rat) string {
 	switch {
 	case !Valid(a):
 		return ""
-	case isOne(a.Den):
+	case limbs.IsOne(a.Den):
 		return whole.Text(top(a))
 	}
 	return whole.Text(top(a)) + "/" + nat.Text(a.Den)

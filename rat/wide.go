@@ -12,9 +12,6 @@ import (
 // one is the number 1.
 func one() []uint64 { return []uint64{1} }
 
-// isOne tells whether a number is 1.
-func isOne(a []uint64) bool { return len(a) == 1 && a[0] == 1 }
-
 // top is what stands above the line, with its sign.
 func top(a api.Rat) api.Int { return api.Int{Neg: a.Neg, N: a.Num} }
 
@@ -33,8 +30,8 @@ func bounded(a api.Rat) (api.Rat, api.Errno) {
 
 // lowest is a fraction of any two numbers, the second one not 0.
 func lowest(neg bool, num, den []uint64) api.Rat {
-	by := limbs.Gcd(num, den)
-	return signed(neg, without(num, by), without(den, by))
+	num, den = limbs.Lowest(num, den)
+	return signed(neg, num, den)
 }
 
 // times is the product of two numbers.
